@@ -1,0 +1,1 @@
+"""Rinsework: cloths in hues, dyed one behind the other, with rinses between."""
