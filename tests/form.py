@@ -1,4 +1,4 @@
-"""Looks at the package's files for what the rules of the language leave out, as far as a reading shows it."""
+"""Finds breaches of some of the language's rules in the package's files; no fault found is no proof of none."""
 
 import ast
 import builtins
