@@ -14,6 +14,11 @@ OverflowError RuntimeError NotImplementedError AttributeError StopIteration""".s
 METHODS = """append clear copy count endswith extend find get index insert isalnum isalpha isdigit islower isspace isupper
 items join keys ljust lower lstrip partition pop remove replace reverse rfind rjust rpartition rsplit rstrip setdefault
 split splitlines startswith strip update upper values zfill bit_length""".split()
+FIRST_IN = ("list", "tuple", "dict", "sorted", "sum", "any", "all", "enumerate", "zip")
+KEY_NAMES = ("len", "int", "str", "abs", "sum", "min", "max", "tuple")
+KEYWORDS = {"sorted": ("key", "reverse"), "min": ("key", "default"), "max": ("key", "default"), "sum": ("start",),
+            "enumerate": ("start",), "zip": ("strict",)}
+FREE_VALUES = "count index title find get join lower upper split strip copy add".split()
 DUNDERS = ["__init__", "__eq__", "__repr__", "__str__", "__len__"]
 UNUSED = """register mro elements open input version_info with_traceback add_note attrgetter breakpoint builtins compile
 copyright credits delattr dir eval exec exit gc getattr globals hasattr help id importlib license locals methodcaller os
@@ -130,11 +135,159 @@ def node_faults(node, package, methods):
     return faults
 
 
+def top_names(body):
+    return [name for node in body for part in [node] + getattr(node, "targets", []) for name in bound_names(part)]
+
+
 def top_faults(body):
     kinds = (ast.ImportFrom, ast.FunctionDef, ast.ClassDef, ast.Assign)
-    names = [name for node in body for part in [node] + getattr(node, "targets", []) for name in bound_names(part)]
+    names = top_names(body)
     faults = [(node.lineno, "L3 top") for node in body if not isinstance(node, kinds)]
     return faults + [(1, "L15 bound twice " + name) for name in set(names) if names.count(name) > 1]
+
+
+# What is around each node, so that it can be asked where a call stands.
+def around(tree):
+    return {part: node for node in ast.walk(tree) for part in ast.iter_child_nodes(node)}
+
+
+def called_name(node):
+    return node.func.id if isinstance(node, ast.Call) and isinstance(node.func, ast.Name) else None
+
+
+def is_walk(node):
+    if called_name(node) in ("zip", "enumerate", "reversed", "range"):
+        return True
+    return (isinstance(node, ast.Call) and isinstance(node.func, ast.Attribute) and not node.args
+            and node.func.attr in ("items", "keys", "values"))
+
+
+def is_walked_at_once(node, outer):
+    if isinstance(outer, (ast.For, ast.comprehension)):
+        return node is outer.iter
+    if not isinstance(outer, ast.Call) or node not in outer.args:
+        return False
+    if isinstance(outer.func, ast.Attribute):
+        return outer.func.attr == "join" and isinstance(outer.func.value, ast.Constant)
+    if called_name(outer) in ("min", "max"):
+        return len(outer.args) == 1
+    return called_name(outer) == "zip" or outer.args[0] is node and called_name(outer) in FIRST_IN
+
+
+def is_set_in_its_place(node, outer):
+    if isinstance(outer, ast.BinOp):
+        return isinstance(outer.op, (ast.Sub, ast.BitAnd, ast.BitOr, ast.BitXor))
+    if isinstance(outer, ast.Compare):
+        return isinstance(outer.ops[0], (ast.In, ast.NotIn, ast.Eq, ast.NotEq))
+    return called_name(outer) in ("sorted", "len") and not outer.keywords
+
+
+def is_own_in_its_place(node, outer):
+    if isinstance(outer, ast.Call):
+        return outer.func is node or called_name(outer) == "isinstance"
+    if isinstance(outer, ast.keyword):
+        return outer.arg == "key" and node.id in KEY_NAMES
+    return isinstance(outer, (ast.Tuple, ast.ClassDef, ast.ExceptHandler))
+
+
+def place_faults(node, outer):
+    if is_walk(node) and not is_walked_at_once(node, outer):
+        return ["L23 kept walk"]
+    if (isinstance(node, ast.Set) or called_name(node) in ("set", "frozenset")) and not is_set_in_its_place(node, outer):
+        return ["L24 set"]
+    if isinstance(node, ast.Name) and node.id in OWN_NAMES and not is_own_in_its_place(node, outer):
+        return ["L22 kept as a value"]
+    if isinstance(node, ast.Attribute) and node.attr in METHODS and isinstance(node.ctx, ast.Load):
+        called = isinstance(outer, ast.Call) and outer.func is node
+        return [] if called or isinstance(outer, ast.keyword) else ["L25 method handed on"]
+    return []
+
+
+def keyword_faults(node):
+    name = called_name(node)
+    if name in OWN_NAMES and not all(word.arg in KEYWORDS.get(name, ()) for word in node.keywords):
+        return ["L22 keyword"]
+    if isinstance(node.func, ast.Attribute) and node.func.attr in METHODS and node.keywords:
+        return ["L22 keyword"]
+    return []
+
+
+def annotation_faults(node):
+    if isinstance(node, ast.FunctionDef) and node.returns or isinstance(node, ast.arg) and node.annotation:
+        return ["L21 annotation"]
+    return []
+
+
+def raise_faults(node):
+    if isinstance(node, ast.Raise) and not isinstance(node.exc, ast.Call):
+        return ["L19 raise"]
+    if isinstance(node, ast.ExceptHandler):
+        names = [part.id for part in ast.walk(node.type) if isinstance(part, ast.Name)] if node.type else ["none"]
+        return ["L19 except"] if set(names) & {"none", "Exception", "TypeError"} else []
+    return []
+
+
+def local_faults(tree):
+    taken = [part.name for node in tree.body if isinstance(node, ast.ImportFrom) for part in node.names]
+    taken += [node.name for node in tree.body if isinstance(node, ast.ClassDef)]
+    locals_of = [node for each in ast.walk(tree) if isinstance(each, (ast.FunctionDef, ast.Lambda))
+                 for node in ast.walk(each) if isinstance(node, (ast.arg, ast.Name))]
+    return [(node.lineno, "L15 local like a class or an import") for node in locals_of
+            if set(bound_names(node)) & set(taken)]
+
+
+def method_faults(node):
+    names = [part.name for part in node.body if isinstance(part, ast.FunctionDef)]
+    faults = ["L18 method twice"] if len(set(names)) < len(names) else []
+    for part in node.body:
+        if isinstance(part, ast.FunctionDef) and part.name == "__init__":
+            faults += ["L28 return" for inner in ast.walk(part) if isinstance(inner, ast.Return)]
+    return faults
+
+
+def lambda_faults(tree):
+    seen = [(node.lineno, ast.dump(node.args)) for node in ast.walk(tree) if isinstance(node, ast.Lambda)]
+    return [(line, "L13 lambdas") for line, given in set(seen) if seen.count((line, given)) > 1]
+
+
+def placed_faults(tree):
+    faults = local_faults(tree) + lambda_faults(tree)
+    for node, outer in around(tree).items():
+        found = place_faults(node, outer) + annotation_faults(node) + raise_faults(node)
+        found += keyword_faults(node) if isinstance(node, ast.Call) else []
+        found += method_faults(node) if isinstance(node, ast.ClassDef) else []
+        faults += [(getattr(node, "lineno", 0), fault) for fault in found]
+    return faults
+
+
+def own_values(trees):
+    return [node.attr for tree in trees for node in ast.walk(tree)
+            if isinstance(node, ast.Attribute) and isinstance(node.ctx, ast.Store)]
+
+
+# Names that Python's own values have, as L26 tells them.
+def builtin_parts():
+    return {name for kind in (str, int, list, dict, set, bytes) for name in dir(kind)}
+
+
+# Names that are methods or values of classes, over the whole package.
+def member_faults(trees):
+    methods = [name for name in own_methods(trees) if name not in DUNDERS]
+    values = own_values(trees)
+    faults = ["L18 method and value " + name for name in set(methods) & set(values)]
+    faults += ["L26 method " + name for name in set(methods) & builtin_parts() - {"add", "discard"} - set(METHODS)]
+    return faults + ["L26 value " + name for name in set(values) & builtin_parts() - set(FREE_VALUES)]
+
+
+# Names that are not drawn from the very file that defines them.
+def drawn_faults(trees, package):
+    faults = []
+    for name, tree in trees.items():
+        for node in ast.walk(tree):
+            if isinstance(node, ast.ImportFrom) and node.module != "__future__":
+                defined = top_names(trees[node.module[len(package) + 1:]].body)
+                faults += [(name, part.name) for part in node.names if part.name not in defined]
+    return faults
 
 
 def own_methods(trees):
@@ -148,7 +301,7 @@ def code_faults(tree, package, methods):
     faults = top_faults(tree.body)
     for node in ast.walk(tree):
         faults += [(getattr(node, "lineno", 0), fault) for fault in node_faults(node, package, methods)]
-    return faults
+    return faults + placed_faults(tree)
 
 
 def drawn_from(tree):

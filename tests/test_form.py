@@ -5,7 +5,7 @@ import pathlib
 import re
 import unittest
 
-from tests.form import code_faults, drawn_from, in_rings, own_methods, text_faults
+from tests.form import code_faults, drawn_faults, drawn_from, in_rings, member_faults, own_methods, text_faults
 
 PACKAGE = pathlib.Path(__file__).resolve().parent.parent / "rinsework"
 
@@ -37,6 +37,11 @@ class FormTest(unittest.TestCase):
         for name, tree in trees.items():
             self.assertEqual(code_faults(tree, "rinsework", methods), [], name)
 
+    def test_the_package_as_a_whole(self):
+        trees = {name: ast.parse(text) for name, text in texts().items()}
+        self.assertEqual(member_faults(trees.values()), [])
+        self.assertEqual(drawn_faults(trees, "rinsework"), [])
+
     def test_no_file_draws_from_itself(self):
         draws = {"rinsework." + name: drawn_from(ast.parse(text)) for name, text in texts().items()}
         self.assertEqual(in_rings(draws), [])
@@ -52,6 +57,34 @@ class FaultsAreFoundTest(unittest.TestCase):
                      "def f():\n" + "    pass\n" * 40, "def f(x):\n    return [y for z in x for y in z]",
                      "def f(x):\n    return max(*x)", "x = 'a%'", "def f(x):\n    return type(x)"]:
             self.assertNotEqual(code_faults(ast.parse(text), "rinsework", []), [], text)
+
+    def test_places(self):
+        for text in ["def f(x):\n    y = zip(x, x)", "def f(x):\n    return range(x)", "def f(x):\n    return x.items()",
+                     "def f(x):\n    return min(range(x), 5)", "def f(x):\n    return set(x)", "def f(x):\n    y = {1, 2}",
+                     "def f(x):\n    return [len, x]", "def f(x):\n    return x.append", "def f(x: int):\n    pass",
+                     "def f(x):\n    return sorted(x, key=sorted)", "def f(x):\n    return int(x, base=5)",
+                     "def f(x):\n    return x.split(maxsplit=1)", "def f(x) -> int:\n    pass",
+                     "def f(x):\n    for y in set(x):\n        pass", "def f(x):\n    raise KeyError",
+                     "def f(x):\n    try:\n        pass\n    except Exception:\n        pass",
+                     "def f(x):\n    try:\n        pass\n    except:\n        pass",
+                     "class C:\n    def m(self):\n        pass\n    def m(self):\n        pass",
+                     "class C:\n    def __init__(self):\n        return None", "x = [lambda y: 1, lambda y: 2]",
+                     "class C:\n    pass\n\n\ndef f(C):\n    pass",
+                     "from rinsework.words import is_name\n\n\ndef f(x):\n    is_name = x"]:
+            self.assertNotEqual(code_faults(ast.parse(text), "rinsework", ["m"]), [], text)
+
+    def test_places_that_are_free(self):
+        for text in ["def f(x):\n    return list(zip(x, range(5)))", "def f(x):\n    return sorted(set(x) | set(x))",
+                     "def f(x):\n    return max([y for y in range(x)], default=None)", "def f(x):\n    return x in {1, 2}",
+                     "def f(x):\n    return ' '.join(x.keys())", "def f(x):\n    return sorted(x.items(), key=len)",
+                     "def f(x):\n    return isinstance(x, (int, str))", "def f(x):\n    return min(x.values())"]:
+            self.assertEqual(code_faults(ast.parse(text), "rinsework", []), [], text)
+
+    def test_members(self):
+        for text in ["class C:\n    def m(self):\n        self.m = 1", "class C:\n    def encode(self):\n        pass",
+                     "class C:\n    def m(self):\n        self.items = 1"]:
+            self.assertNotEqual(member_faults([ast.parse(text)]), [], text)
+        self.assertEqual(member_faults([ast.parse("class C:\n    def put(self):\n        self.count = 1")]), [])
 
     def test_texts(self):
         for text in ["x" * 121, "a\tb", "# a type", "\u00e4", "x\n" * 401]:
