@@ -1,6 +1,7 @@
 """Works that are made for tests, and the same reckoned by other words than the program's, to be held against it."""
 
 import copy
+import functools
 import itertools
 import random
 from fractions import Fraction
@@ -12,6 +13,15 @@ NAMES = ["a", "ab", "b", "abc", "ba", "z", "aa", "zzzzzzzz", "c", "bz", "d"]
 NO_NAMES = [0, 1, -1, None, True, False, [], ["a"], (), ("a",), {}, {"a": 1}, "", "A", "a ", "nocloth", GREAT]
 
 
+@functools.lru_cache(maxsize=None)
+def tried_rinses(rinses):
+    """The least sums of ways with fewer stops between than there are hues."""
+    hues = range(len(rinses) - 1)
+    ways = [stops for many in hues for stops in itertools.product(hues, repeat=many)]
+    return {(first, then): min(sum(rinses[f][g] for f, g in zip((first,) + way, way + (then,))) for way in ways)
+            for first in range(-1, len(hues)) for then in hues}
+
+
 class Given:
     """What works are made of; each reckoning looks at it alone."""
 
@@ -20,11 +30,7 @@ class Given:
         self.hues = len(rinses) - 1
         self.by_name = {cloth[0]: cloth for cloth in cloths}
         self.names = sorted(self.by_name)
-        self.least = {(f, g): self.tried_rinse(f, g) for f in range(-1, self.hues) for g in range(self.hues)}
-
-    def tried_rinse(self, first, then):
-        ways = [stops for many in range(self.hues) for stops in itertools.product(range(self.hues), repeat=many)]
-        return min(sum(self.rinses[f][g] for f, g in zip((first,) + way, way + (then,))) for way in ways)
+        self.least = tried_rinses(tuple(tuple(row) for row in rinses))
 
     def works(self):
         return Works(copy.deepcopy(self.rinses), list(self.cloths), self.last, self.time)
@@ -127,6 +133,20 @@ class Given:
                         return False
         start = ((0,) * self.hues, self.last)
         return any(row[:2] == start and row[2] <= self.time for row in table)
+
+    def corners(self):
+        """The pairs of greatest lateness and end that no order undercuts, rising by the lateness."""
+        pairs = {(self.late(order), self.end(order)) for order in self.orders()} if self.names else set()
+        return sorted(pair for pair in pairs
+                      if not any(one[0] <= pair[0] and one[1] <= pair[1] and one != pair for one in pairs))
+
+    def keeps_some(self, bound):
+        return any(self.keeps(order, bound) for order in self.orders())
+
+    def rest(self, counts, last, time):
+        """What is left of the works in a state at a time."""
+        left = {name for row, done in zip(self.due_rows(), counts) for name in row[done:]}
+        return Given(self.rinses, [cloth for cloth in self.cloths if cloth[0] in left], last, time)
 
 
 def is_in_order(rows, names):
