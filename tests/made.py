@@ -79,10 +79,7 @@ class Given:
         return min(self.late(order) for order in self.orders())
 
     def bounds(self):
-        """Bounds where the answers change, one less, one more, and None."""
-        lates = sorted({self.late(order) for order in self.orders()}) if self.names else [0]
-        near = {late + more for late in lates[:2] + lates[-1:] for more in (-1, 0, 1)}
-        return sorted(near) + [None]
+        return near(self.late(order) for order in self.orders()) if self.names else near([])
 
     def without(self, names):
         return Given(self.rinses, [cloth for cloth in self.cloths if cloth[0] not in names], self.last, self.time)
@@ -112,27 +109,38 @@ class Given:
                 times.setdefault(self.state(names), []).append(self.end(names))
         return sorted((counts, last, min(times[counts, last])) for counts, last in times)
 
+    def full(self):
+        return tuple(len(row) for row in self.due_rows())
+
+    def are_states(self, rows):
+        """Whether rows are unlike in all but their last number, with counts and lasts within reach."""
+        reached = all(0 <= done <= many for row in rows for done, many in zip(row[0], self.full()))
+        return reached and all(-1 <= row[1] < self.hues for row in rows) and len({row[:-1] for row in rows}) == len(rows)
+
+    def has_start(self, table, late=()):
+        return any(row[:-1] == ((0,) * self.hues, self.last) + late and row[-1] <= self.time for row in table)
+
+    def nexts(self, rows, counts):
+        """Of each hue with cloths left the next cloth of its row, and the counts behind it."""
+        return [(self.by_name[row[counts[hue]]], counts_behind(counts, hue, 1))
+                for hue, row in enumerate(rows) if counts[hue] < len(row)]
+
+    def took(self, last, cloth):
+        return cloth[2] + (self.least[last, cloth[1]] if last != cloth[1] else 0)
+
     def bars(self, bound, table, end=None):
         """Point 42, clause by clause."""
-        rows = self.due_rows()
-        full = tuple(len(row) for row in rows)
-        for number, (counts, last, time) in enumerate(table):
-            if not all(0 <= done <= many for done, many in zip(counts, full)) or not -1 <= last <= self.hues - 1:
+        if not self.are_states(table) or not self.has_start(table):
+            return False
+        for counts, last, time in table:
+            if counts == self.full() and (end is None or time < end):
                 return False
-            if any((counts, last) == other[:2] for other in table[:number]):
-                return False
-            if counts == full and (end is None or time < end):
-                return False
-            for hue in range(self.hues):
-                if counts[hue] < full[hue]:
-                    cloth = self.by_name[rows[hue][counts[hue]]]
-                    after = time + (self.least[last, hue] if last != hue else 0) + cloth[2]
-                    behind = counts[:hue] + (counts[hue] + 1,) + counts[hue + 1:]
-                    broken = bound is not None and after - cloth[3] > bound
-                    if not broken and not any(row[:2] == (behind, hue) and row[2] <= after for row in table):
-                        return False
-        start = ((0,) * self.hues, self.last)
-        return any(row[:2] == start and row[2] <= self.time for row in table)
+            for cloth, behind in self.nexts(self.due_rows(), counts):
+                after = time + self.took(last, cloth)
+                broken = bound is not None and after - cloth[3] > bound
+                if not broken and not any(row[:2] == (behind, cloth[1]) and row[2] <= after for row in table):
+                    return False
+        return True
 
     def corners(self):
         """The pairs of greatest lateness and end that no order undercuts, rising by the lateness."""
@@ -147,6 +155,130 @@ class Given:
         """What is left of the works in a state at a time."""
         left = {name for row, done in zip(self.due_rows(), counts) for name in row[done:]}
         return Given(self.rinses, [cloth for cloth in self.cloths if cloth[0] in left], last, time)
+
+    def lates(self, names):
+        return sum(late > 0 for late in self.latenesses(names))
+
+    def holds_up(self, cost, prices):
+        """Point 70, clause by clause."""
+        least = cost - self.time * sum(cloth[4] for cloth in self.cloths)
+        starts = [row[2] for row in prices if row[:2] == ((0,) * self.hues, self.last)]
+        if not self.are_states(prices) or not starts or starts[0] < least:
+            return False
+        rows = self.steep_rows()
+        for counts, last, price in prices:
+            if counts == self.full() and price > 0:
+                return False
+            left = [self.by_name[name] for row, done in zip(rows, counts) for name in row[done:]]
+            for cloth, behind in self.nexts(rows, counts):
+                step = self.took(last, cloth) * sum(other[4] for other in left)
+                if not any(row[:2] == (behind, cloth[1]) and price <= step + row[2] for row in prices):
+                    return False
+        return True
+
+    def bars_late(self, many, table):
+        """Point 80, clause by clause."""
+        if not self.are_states(table) or many > 0 and not self.has_start(table, (0,)):
+            return False
+        for counts, last, late, time in table:
+            if not 0 <= late < many or counts == self.full():
+                return False
+            for cloth, behind in self.nexts(self.due_rows(), counts):
+                end = time + self.took(last, cloth)
+                asked = [((behind, cloth[1], late), end)] if end <= cloth[3] else []
+                asked += [((behind, last, late + 1), time)] if late + 1 < many else []
+                if not all(any(row[:3] == state and row[3] <= most for row in table) for state, most in asked):
+                    return False
+        return True
+
+    def trayed_plans(self):
+        """Each order, cut in each way into trays of one hue."""
+        plans = []
+        for order in self.orders():
+            for cuts in itertools.product([False, True], repeat=max(len(order) - 1, 0)):
+                trays = [[name] for name in order[:1]]
+                for name, cut in zip(order[1:], cuts):
+                    if cut:
+                        trays.append([name])
+                    else:
+                        trays[-1].append(name)
+                if all(len({self.by_name[name][1] for name in tray}) == 1 for tray in trays):
+                    plans.append(trays)
+        return plans
+
+    def tray_rows(self, trays):
+        rows, hue, time = [], self.last, self.time
+        for tray in trays:
+            cloths = [self.by_name[name] for name in tray]
+            begin = time + self.least[hue, cloths[0][1]]
+            hue, time = cloths[0][1], begin + sum(cloth[2] for cloth in cloths)
+            rows.append((begin, time))
+        return rows
+
+    def tray_end(self, trays):
+        return ([self.time] + [end for begin, end in self.tray_rows(trays)])[-1]
+
+    def tray_late(self, trays):
+        lates = [end - self.by_name[name][3] for tray, (begin, end) in zip(trays, self.tray_rows(trays)) for name in tray]
+        return max(lates) if lates else None
+
+    def tray_order(self, trays):
+        places = {name: place for place, tray in enumerate(trays) for name in tray}
+        return all(places[row[one]] <= places[row[other]] for row in self.due_rows()
+                   for other in range(len(row)) for one in range(other))
+
+    def tray_bars(self, bound, table, end=None):
+        """Points 42 and 92, clause by clause."""
+        if not self.are_states(table) or not self.has_start(table):
+            return False
+        for counts, last, time in table:
+            if counts == self.full() and (end is None or time < end):
+                return False
+            for hue, row in enumerate(self.due_rows()):
+                for many in range(1, len(row) - counts[hue] + 1):
+                    cloths = [self.by_name[name] for name in row[counts[hue]:counts[hue] + many]]
+                    after = time + self.least[last, hue] + sum(cloth[2] for cloth in cloths)
+                    state = (counts_behind(counts, hue, many), hue)
+                    broken = bound is not None and after - cloths[0][3] > bound
+                    if not broken and not any(other[:2] == state and other[2] <= after for other in table):
+                        return False
+        return True
+
+
+def counts_behind(counts, hue, many):
+    return counts[:hue] + (counts[hue] + many,) + counts[hue + 1:]
+
+
+def near(lates):
+    """Bounds where the answers change, one less, one more, and None."""
+    lates = sorted(set(lates)) or [0]
+    return sorted({late + more for late in lates[:2] + lates[-1:] for more in (-1, 0, 1)}) + [None]
+
+
+def changed(rows, place, row):
+    return rows[:place] + [row] + rows[place + 1:]
+
+
+def changed_by_chance(chance, given, rows):
+    """Rows of a table, lated rows or priced rows with a small change; what is changed last is their number."""
+    place = chance.randrange(len(rows))
+    counts, last, *late, number = rows[place]
+    deed = chance.randrange(7)
+    if deed == 0:
+        return rows[:place] + rows[place + 1:]
+    if deed == 1:
+        return rows + [(counts, chance.randint(-1, given.hues - 1), *late, number + chance.randint(0, 9))]
+    if deed == 2:
+        return changed(rows, place, (counts, last, *late, number + chance.choice([-3, -1, 1])))
+    if deed == 3:
+        return changed(rows, place, (counts, last, *late, number - chance.randint(0, 1)))
+    if deed == 4:
+        hue = chance.randrange(given.hues)
+        other = counts[:hue] + (counts[hue] + chance.choice([-1, 1]),) + counts[hue + 1:]
+        return rows + [(other, last, *late, number)]
+    if deed == 5:
+        return changed(rows, place, (counts, last, *[each + chance.choice([-1, 1]) for each in late], number))
+    return rows[place:] + rows[:place]
 
 
 def is_in_order(rows, names):
@@ -207,3 +339,31 @@ def check_own_lists(case, ask):
     spoil(first)
     case.assertEqual(second, kept)
     case.assertEqual(ask(), kept)
+
+
+def check_own_answers(case, asks, most_cloths=4):
+    """Asks of works and a bound tell the asker's own lists, and leave the works as they are."""
+    for given in small_ones(1, most_cloths):
+        works = given.works()
+        ahead = told_of(works)
+        for bound in given.bounds():
+            for ask in asks:
+                check_own_lists(case, lambda: ask(works, bound))
+        case.assertEqual(told_of(works), ahead)
+
+
+def check_stays(case, ask, things):
+    """What is handed in stays as it is, and asked again the same is said."""
+    for thing in things:
+        ahead = copy.deepcopy(thing)
+        case.assertIs(ask(thing), ask(thing))
+        case.assertEqual(thing, ahead)
+
+
+def check_like_works(case, asks):
+    """Of works with the same cloths in another order the same is told."""
+    for given in small_ones(1):
+        turned = Given(given.rinses, given.cloths[::-1], given.last, given.time)
+        for bound in given.bounds():
+            for ask in asks:
+                case.assertEqual(ask(given.works(), bound), ask(turned.works(), bound))

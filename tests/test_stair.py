@@ -6,7 +6,7 @@ import unittest
 from rinsework.stair import least_late, stair, stands
 from rinsework.tables import bars, soonest
 from rinsework.works import Works
-from tests.made import GREAT, NO_NAMES, Given, check_own_lists, made, small_ones, told_of
+from tests.made import GREAT, NO_NAMES, Given, changed, check_own_lists, made, small_ones, told_of
 
 TWO = [[0, 3], [4, 0], [1, 2]]
 # With c straight behind a there is one rinse, but b is late by 1; else there are two, and none is late.
@@ -19,10 +19,6 @@ def asked_walls(corners):
         return []
     between = [(one[0] - 1, ahead[1]) for ahead, one in zip(corners, corners[1:])]
     return [(corners[0][0] - 1, None)] + between + [(None, corners[-1][1])]
-
-
-def changed(things, place, thing):
-    return things[:place] + [thing] + things[place + 1:]
 
 
 # Works whose stair has several corners are the ones at which exchanges can be looked at.

@@ -1,23 +1,19 @@
 """Points 2, 6, 12 and 40 to 43: rows of states, the soonest table, what a table bars, a plan or a table for a bound."""
 
-import copy
 import random
 import unittest
 
 from rinsework.plans import is_plan, keeps
 from rinsework.tables import bars, plan_for, soonest
 from rinsework.works import Works
-from tests.made import GREAT, Given, check_own_lists, made, small_ones, told_of
+from tests.made import (GREAT, Given, changed, changed_by_chance, check_like_works, check_own_answers, check_stays,
+                        made, small_ones)
 
 TWO = [[0, 3], [4, 0], [1, 2]]
 BY_HAND = Given(TWO, [("a", 0, 5, 10, 1), ("b", 1, 6, 20, 1), ("c", 1, 7, 15, 1)])
 # Named by the cloths that are done; those of the second hue are c and then b.
 START, A, C, CB = ((0, 0), -1, 0), ((1, 0), 0, 6), ((0, 1), 1, 9), ((0, 2), 1, 15)
 AC, CA, ACB, CBA = ((1, 1), 1, 16), ((1, 1), 0, 18), ((1, 2), 1, 22), ((1, 2), 0, 24)
-
-
-def changed(table, place, row):
-    return table[:place] + [row] + table[place + 1:]
 
 
 class SoonestTest(unittest.TestCase):
@@ -210,24 +206,6 @@ class BarsTest(unittest.TestCase):
 class ChangedTablesTest(unittest.TestCase):
     """Tables by chance, held against point 42 clause by clause, and against all orders."""
 
-    def one_changed(self, chance, given, table):
-        place = chance.randrange(len(table))
-        counts, last, time = table[place]
-        deed = chance.randrange(6)
-        if deed == 0:
-            return table[:place] + table[place + 1:]
-        if deed == 1:
-            return table + [(counts, chance.randint(-1, given.hues - 1), time + chance.randint(0, 9))]
-        if deed == 2:
-            return changed(table, place, (counts, last, time + chance.choice([-3, -1, 1])))
-        if deed == 3:
-            return changed(table, place, (counts, last, time - chance.randint(0, 1)))
-        if deed == 4:
-            hue = chance.randrange(given.hues)
-            other = counts[:hue] + (counts[hue] + chance.choice([-1, 1]),) + counts[hue + 1:]
-            return table + [(other, last, time)]
-        return table[place:] + table[:place]
-
     def test_by_chance(self):
         chance = random.Random(42)
         said = {True: 0, False: 0}
@@ -244,33 +222,20 @@ class ChangedTablesTest(unittest.TestCase):
                         if answer:
                             kept = [ended for late, ended in plans if bound is None or late is None or late <= bound]
                             self.assertTrue(all(end is not None and ended >= end for ended in kept))
-                        table = self.one_changed(chance, given, table) if table else table
+                        table = changed_by_chance(chance, given, table) if table else table
         self.assertGreater(min(said.values()), 300)
 
 
 class OwnListsTest(unittest.TestCase):
     def test_told_lists_are_the_asker_s_own(self):
-        for given in small_ones(1, 4):
-            works = given.works()
-            ahead = told_of(works)
-            for bound in given.bounds():
-                check_own_lists(self, lambda: soonest(works, bound))
-                check_own_lists(self, lambda: plan_for(works, bound))
-            self.assertEqual(told_of(works), ahead)
+        check_own_answers(self, [soonest, plan_for])
 
     def test_tables_handed_in_stay(self):
         works = BY_HAND.works()
-        for table in [soonest(works, 1)[::-1], soonest(works, None)[3:], []]:
-            ahead = copy.deepcopy(table)
-            self.assertIs(bars(works, 1, table, 5), bars(works, 1, table, 5))
-            self.assertEqual(table, ahead)
+        check_stays(self, lambda table: bars(works, 1, table, 5), [soonest(works, 1)[::-1], soonest(works, None)[3:], []])
 
     def test_the_same_for_like_works(self):
-        for given in small_ones(1):
-            turned = Given(given.rinses, given.cloths[::-1], given.last, given.time)
-            for bound in given.bounds():
-                self.assertEqual(plan_for(given.works(), bound), plan_for(turned.works(), bound))
-                self.assertEqual(soonest(given.works(), bound), soonest(turned.works(), bound))
+        check_like_works(self, [soonest, plan_for])
 
 
 if __name__ == "__main__":
