@@ -227,6 +227,32 @@ def raise_faults(node):
     return []
 
 
+def kept_at_the_top(tree):
+    """The lists and dicts of a file's top, by their names."""
+    return {target.id: node.value for node in tree.body if isinstance(node, ast.Assign)
+            for target in node.targets if isinstance(target, ast.Name) and isinstance(node.value, (ast.List, ast.Dict))}
+
+
+def is_read_alone(node, outer):
+    if isinstance(outer, ast.Subscript):
+        return outer.value is node and isinstance(outer.ctx, ast.Load)
+    if isinstance(outer, ast.Attribute):
+        return outer.attr in ("get", "items", "keys", "values", "index", "count", "copy")
+    if isinstance(outer, ast.Call):
+        return called_name(outer) in FIRST_IN + ("len", "min", "max", "reversed")
+    return isinstance(outer, (ast.For, ast.comprehension)) or (
+        isinstance(outer, ast.Compare) and isinstance(outer.ops[0], (ast.In, ast.NotIn, ast.Eq, ast.NotEq)))
+
+
+def kept_faults(tree):
+    kept = kept_at_the_top(tree)
+    faults = [(value.lineno, "L15 a list or dict within one") for value in kept.values()
+              for part in ast.walk(value) if part is not value and isinstance(part, (ast.List, ast.Dict))]
+    return faults + [(node.lineno, "L15 not read alone") for node, outer in around(tree).items()
+                     if isinstance(node, ast.Name) and isinstance(node.ctx, ast.Load) and node.id in kept
+                     and not is_read_alone(node, outer)]
+
+
 def local_faults(tree):
     taken = [part.name for node in tree.body if isinstance(node, ast.ImportFrom) for part in node.names]
     taken += [node.name for node in tree.body if isinstance(node, ast.ClassDef)]
@@ -251,7 +277,7 @@ def lambda_faults(tree):
 
 
 def placed_faults(tree):
-    faults = local_faults(tree) + lambda_faults(tree)
+    faults = local_faults(tree) + lambda_faults(tree) + kept_faults(tree)
     for node, outer in around(tree).items():
         found = place_faults(node, outer) + annotation_faults(node) + raise_faults(node)
         found += keyword_faults(node) if isinstance(node, ast.Call) else []

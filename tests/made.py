@@ -244,6 +244,29 @@ class Given:
                         return False
         return True
 
+    def only(self, names):
+        return Given(self.rinses, [cloth for cloth in self.cloths if cloth[0] in names], self.last, self.time)
+
+    def dealings(self, many):
+        """Each order, cut in each way into as many lists as there are vats."""
+        places = range(len(self.names) + 1)
+        return [[order[one:other] for one, other in zip((0,) + cuts, cuts + (len(order),))] for order in self.orders()
+                for cuts in itertools.combinations_with_replacement(places, many - 1)]
+
+    def vat_late(self, dealing):
+        return max([self.late(names) for names in dealing if names], default=None)
+
+    def vats_bar(self, many, bound, sets):
+        """Point 101, clause by clause."""
+        for names, table in sets:
+            if not all(name in self.names for name in names) or sorted(set(names)) != names:
+                return False
+            if not self.only(names).bars(bound, table):
+                return False
+        ways = itertools.product(range(many), repeat=len(self.names))
+        return all(any(len({vat for name, vat in zip(self.names, way) if name in names}) == 1 for names, table in sets)
+                   for way in ways)
+
 
 def counts_behind(counts, hue, many):
     return counts[:hue] + (counts[hue] + many,) + counts[hue + 1:]

@@ -73,6 +73,15 @@ class FaultsAreFoundTest(unittest.TestCase):
                      "from rinsework.words import is_name\n\n\ndef f(x):\n    is_name = x"]:
             self.assertNotEqual(code_faults(ast.parse(text), "rinsework", ["m"]), [], text)
 
+    def test_lists_and_dicts_of_the_top(self):
+        for text in ["X = [[1]]", "X = {1: [2]}", "X = {1: (2, {})}", "X = [1]\n\n\ndef f():\n    return X",
+                     "X = {}\n\n\ndef f(y):\n    X[y] = 1", "X = []\n\n\ndef f(y):\n    X.append(y)",
+                     "X = []\n\n\ndef f(y):\n    return y(X)", "X = []\n\n\ndef f():\n    y = X\n    return y"]:
+            self.assertNotEqual(code_faults(ast.parse(text), "rinsework", []), [], text)
+        for text in ["X = {1: (2, ())}\n\n\ndef f(y):\n    return y in X and X[y]",
+                     "X = [1]\n\n\ndef f():\n    return list(X)", "X = {}\n\n\ndef f(y):\n    return X.get(y)"]:
+            self.assertEqual(code_faults(ast.parse(text), "rinsework", []), [], text)
+
     def test_places_that_are_free(self):
         for text in ["def f(x):\n    return list(zip(x, range(5)))", "def f(x):\n    return sorted(set(x) | set(x))",
                      "def f(x):\n    return max([y for y in range(x)], default=None)", "def f(x):\n    return x in {1, 2}",
